@@ -211,6 +211,59 @@ class LanguageTest(unittest.TestCase):
                 self.assertIn(node.attr, METHODS + methods + values, where)
                 self.assertNotIn(node.attr, NEVER, where)
 
+    def test_lists_and_dicts_at_the_top_hold_no_others(self):
+        for path, tree in self.trees.items():
+            for node in tree.body:
+                if isinstance(node, ast.Assign):
+                    held = [one for one in ast.walk(node.value) if isinstance(one, (ast.List, ast.Dict))]
+                    self.assertEqual([one for one in held if one is not node.value], [], path)
+
+    def test_lists_and_dicts_at_the_top_are_only_read(self):
+        for path, tree in self.trees.items():
+            tops = [node.targets[0].id for node in tree.body
+                    if isinstance(node, ast.Assign) and isinstance(node.value, (ast.List, ast.Dict))]
+            for node in ast.walk(tree):
+                if isinstance(node, ast.Subscript) and not isinstance(node.ctx, ast.Load):
+                    self.assertFalse(isinstance(node.value, ast.Name) and node.value.id in tops, path)
+                if isinstance(node, ast.Attribute) and isinstance(node.value, ast.Name) and node.value.id in tops:
+                    self.assertIn(node.attr, ("get", "items", "keys", "values", "index", "count"), path)
+
+    def test_keywords(self):
+        allowed = {"sorted": ("key", "reverse"), "min": ("key", "default"), "max": ("key", "default"), "sum": ("start",),
+                   "enumerate": ("start",), "zip": ("strict",)}
+        for where, node in self.nodes():
+            if isinstance(node, ast.Call) and node.keywords:
+                name = node.func.id if isinstance(node.func, ast.Name) else ""
+                for keyword in node.keywords:
+                    self.assertIn(keyword.arg, allowed.get(name, ()), where)
+
+    def test_walked_on_the_spot(self):
+        for path, tree in self.trees.items():
+            parents = {inner: node for node in ast.walk(tree) for inner in ast.iter_child_nodes(node)}
+            for node in ast.walk(tree):
+                if not isinstance(node, ast.Call):
+                    continue
+                walked = isinstance(node.func, ast.Name) and node.func.id in ("zip", "enumerate", "reversed", "range")
+                walked = walked or isinstance(node.func, ast.Attribute) and node.func.attr in ("items", "keys", "values")
+                if walked:
+                    above = parents[node]
+                    good = isinstance(above, (ast.For, ast.comprehension)) and above.iter is node
+                    if isinstance(above, ast.Call) and isinstance(above.func, ast.Name) and above.args[0] is node:
+                        good = above.func.id in ("list", "tuple", "dict", "sorted", "sum", "any", "all", "enumerate", "zip",
+                                                 "min", "max")
+                    self.assertTrue(good, f"{path.name}:{node.lineno}")
+
+    def test_powers_and_shared_words(self):
+        for where, node in self.nodes():
+            if isinstance(node, ast.BinOp) and isinstance(node.op, ast.Pow):
+                self.assertIsInstance(node.right, ast.Constant, where)
+            if isinstance(node, ast.Compare):
+                for op, right in zip(node.ops, node.comparators):
+                    if isinstance(op, (ast.Is, ast.IsNot)):
+                        self.assertIn(right.value, (None, True, False), where)
+            if isinstance(node, ast.Assign):
+                self.assertIsInstance(node.targets[0], (ast.Name, ast.Attribute, ast.Subscript), where)
+
     def test_errors(self):
         for where, node in self.nodes():
             if isinstance(node, ast.ExceptHandler):
