@@ -129,7 +129,8 @@ class ThingsTest(unittest.TestCase):
         told = [[], [], [0], [], [0, 1, 1], [2], [], [3, 0, 1, 2], [1, 2], []]
         for one, expected in zip(KINDS, told):
             self.assertEqual(named_in(one), expected)
-        self.assertEqual([named_by(None), named_by(number(3)), named_by(thing(3))], [[], [], [3]])
+        self.assertEqual(named_by([None, number(3), thing(3), thing(2), None, thing(3)]), [3, 2, 3])
+        self.assertEqual(named_by([]), [])
 
     def test_waiting_loops_that_do_not_wait(self):
         self.assertEqual(open_waiting(2, (4, 5)), ("waiting", 2, "open", (), (), (4, 5)))

@@ -219,14 +219,31 @@ class LanguageTest(unittest.TestCase):
                     self.assertEqual([one for one in held if one is not node.value], [], path)
 
     def test_lists_and_dicts_at_the_top_are_only_read(self):
+        kept = {}
         for path, tree in self.trees.items():
-            tops = [node.targets[0].id for node in tree.body
-                    if isinstance(node, ast.Assign) and isinstance(node.value, (ast.List, ast.Dict))]
+            kept[module_of(path)] = [node.targets[0].id for node in tree.body
+                                     if isinstance(node, ast.Assign) and isinstance(node.value, (ast.List, ast.Dict))]
+        for path, tree in self.trees.items():
+            tops = list(kept[module_of(path)])
+            for node in tree.body:
+                if isinstance(node, ast.ImportFrom):
+                    tops.extend(alias.name for alias in node.names if alias.name in kept[node.module])
+            parents = {inner: node for node in ast.walk(tree) for inner in ast.iter_child_nodes(node)}
             for node in ast.walk(tree):
-                if isinstance(node, ast.Subscript) and not isinstance(node.ctx, ast.Load):
-                    self.assertFalse(isinstance(node.value, ast.Name) and node.value.id in tops, path)
-                if isinstance(node, ast.Attribute) and isinstance(node.value, ast.Name) and node.value.id in tops:
-                    self.assertIn(node.attr, ("get", "items", "keys", "values", "index", "count"), path)
+                if isinstance(node, ast.Name) and node.id in tops and isinstance(node.ctx, ast.Load):
+                    self.assertTrue(self.is_reading(parents[node], node), f"{path.name}:{node.lineno}")
+
+    def is_reading(self, above, node):
+        """Whether a list or dict of a file's top is only read where it stands."""
+        if isinstance(above, ast.Subscript):
+            return above.value is node and isinstance(above.ctx, ast.Load)
+        if isinstance(above, ast.Attribute):
+            return above.attr in ("get", "items", "keys", "values", "index", "count")
+        if isinstance(above, ast.Call):
+            return isinstance(above.func, ast.Name) and above.func.id in ("len", "list", "dict", "tuple", "sorted", "enumerate")
+        if isinstance(above, (ast.For, ast.comprehension)):
+            return above.iter is node
+        return isinstance(above, ast.Compare)
 
     def test_keywords(self):
         allowed = {"sorted": ("key", "reverse"), "min": ("key", "default"), "max": ("key", "default"), "sum": ("start",),

@@ -394,6 +394,15 @@ class WaysTest(LookingTest):
         self.bad(code((), (2,), 1))
         self.good(code((1, 2), (2,), 2))
 
+    def test_catches_with_taken_places(self):
+        def code(rows):
+            fun = ("fun", 0, 0, 0, 2, (), (("box", 0),), (
+                (rows, ("go", 1), ()), ((self.one(0),), ("go", 2), (("any", ("taken", 0), 2),)), ((), ("back", 0), ())))
+            return (("main", None, 0, 1, 1, (0,), (), (BACK,)), fun)
+        self.bad(code(()))
+        self.bad(code((self.one(1),)))
+        self.good(code((self.one(0),)))
+
     def test_a_catch_of_a_state_that_ends_the_run(self):
         for end in (("back", None), ("back", 1), ("fault", "oh", 1)):
             code = (("main", None, 0, 1, 3, (), (), (

@@ -2,7 +2,7 @@
 
 from waitloom.errors import NoThing
 from waitloom.shapes import is_whole
-from waitloom.things import named_by_all, named_in
+from waitloom.things import named_by, named_in
 
 
 class Heap:
@@ -45,7 +45,7 @@ class Heap:
     def found_from(self, values):
         """A dict of True of the numbers of all things that are reached from some values."""
         found = {}
-        ahead = named_by_all(values)
+        ahead = named_by(values)
         while ahead:
             number = ahead.pop()
             if number not in found:

@@ -4,7 +4,7 @@ What is written is kept as one whole number for each state, with a bit for each 
 several ways is found by one sign.
 """
 
-from waitloom.shapes import CATCHES, END, END_FORMS, ROW_FORMS, ROWS, STATES, is_code
+from waitloom.shapes import CATCHES, CODE_FORMS, END, ROWS, STATES, is_code
 
 
 def bits_of(slots):
@@ -15,10 +15,10 @@ def bits_of(slots):
     return bits
 
 
-def slots_read(thing, forms):
+def slots_read(thing):
     """The list of the slots that a row or an end reads."""
     found = []
-    for one, shape in zip(thing[1:], forms[thing[0]]):
+    for one, shape in zip(thing[1:], CODE_FORMS[thing[0]]):
         if shape == "of" or shape == "last" and one is not None:
             found.append(one)
         elif shape == "args":
@@ -26,14 +26,14 @@ def slots_read(thing, forms):
     return found
 
 
-def slots_written(thing, forms):
+def slots_written(thing):
     """The list of the slots that a row or an end writes."""
-    return [one for one, shape in zip(thing[1:], forms[thing[0]]) if shape == "to"]
+    return [one for one, shape in zip(thing[1:], CODE_FORMS[thing[0]]) if shape == "to"]
 
 
 def states_named(end):
     """The list of the states that an end names, as they stand."""
-    return [one for one, shape in zip(end[1:], END_FORMS[end[0]]) if shape == "state"]
+    return [one for one, shape in zip(end[1:], CODE_FORMS[end[0]]) if shape == "state"]
 
 
 class Passage:
@@ -44,8 +44,8 @@ class Passage:
         self.written = 0
         self.ways = [(one[2], 0) for one in state[CATCHES]]
         for row in state[ROWS]:
-            self.need_slots(slots_read(row, ROW_FORMS))
-            self.written |= bits_of(slots_written(row, ROW_FORMS))
+            self.need_slots(slots_read(row))
+            self.written |= bits_of(slots_written(row))
         self.end_so(state[END])
 
     def need_slots(self, slots):
@@ -54,8 +54,8 @@ class Passage:
 
     def end_so(self, end):
         """Note what an end reads, and the ways that lead on from it."""
-        self.need_slots(slots_read(end, END_FORMS))
-        told = self.written | bits_of(slots_written(end, END_FORMS))
+        self.need_slots(slots_read(end))
+        told = self.written | bits_of(slots_written(end))
         for place, number in enumerate(states_named(end)):
             # Only the first state behind an end finds what was told; the other one of a step finds a loop that ended.
             self.ways.append((number, told if place == 0 else self.written))

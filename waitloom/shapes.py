@@ -26,15 +26,16 @@ END = 1
 CATCHES = 2
 STATE_LENGTH = 3
 
+ROW_HEADS = ("number", "read", "write", "two", "make")
+END_HEADS = ("go", "if", "while", "call", "step", "hand", "back", "fault")
+
 # The shapes of the things behind each head: to is a middle slot that is written, of one that is read.
-ROW_FORMS = {
+CODE_FORMS = {
     "number": ("to", "number"),
     "read": ("to", "place"),
     "write": ("place", "of"),
     "two": ("to", "sign", "of", "of"),
     "make": ("to", "machine"),
-}
-END_FORMS = {
     "go": ("state",),
     "if": ("of", "state", "state"),
     "while": ("state",),
@@ -125,21 +126,21 @@ def have_shapes(things, shapes, code, number):
     return all([has_shape(thing, shape, code, number) for thing, shape in zip(things, shapes)])
 
 
-def has_form(thing, forms, code, number):
-    """Whether a thing is a tuple of a known head, and behind it what this one wants."""
+def has_form(thing, heads, code, number):
+    """Whether a thing is a tuple of one of some heads, and behind it what this one wants."""
     if not isinstance(thing, tuple) or len(thing) == 0 or not isinstance(thing[0], str):
         return False
-    return thing[0] in forms and have_shapes(thing[1:], forms[thing[0]], code, number)
+    return thing[0] in heads and have_shapes(thing[1:], CODE_FORMS[thing[0]], code, number)
 
 
 def is_row(thing, code, number):
     """Whether a thing is a row in the machine of this number."""
-    return has_form(thing, ROW_FORMS, code, number)
+    return has_form(thing, ROW_HEADS, code, number)
 
 
 def is_end(thing, code, number):
     """Whether a thing is an end of a state in the machine of this number."""
-    if not has_form(thing, END_FORMS, code, number):
+    if not has_form(thing, END_HEADS, code, number):
         return False
     return thing[0] != "hand" or code[number][KIND] != "fun"
 
